@@ -1,0 +1,1 @@
+"""Nearposts: posts so that nobody is far."""

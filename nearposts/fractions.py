@@ -1,0 +1,36 @@
+"""Fractions: tuples (top, bottom) in lowest terms, bottom from 1 on."""
+
+
+def common_divisor(one, other):
+    while other != 0:
+        rest = one % other
+        one = other
+        other = rest
+    return one
+
+
+# A bottom from 1 on is asked for: it keeps the divisor above 0, whatever the top.
+def fraction_of(top, bottom):
+    divisor = common_divisor(top, bottom)
+    return (top // divisor, bottom // divisor)
+
+
+# Bottoms are above 0, so multiplying both sides by them keeps the order.
+def is_below(one, other):
+    return one[0] * other[1] < other[0] * one[1]
+
+
+def least_of(several):
+    least = several[0]
+    for each in several:
+        if is_below(each, least):
+            least = each
+    return least
+
+
+def greatest_of(several):
+    greatest = several[0]
+    for each in several:
+        if is_below(greatest, each):
+            greatest = each
+    return greatest
