@@ -34,3 +34,11 @@ def greatest_of(several):
         if is_below(greatest, each):
             greatest = each
     return greatest
+
+
+# Two unlike fractions are at least one over the product of their bottoms apart, so the
+# whole numbers that they are sorted by are unlike too.
+def rising_unlike(several):
+    greatest_bottom = max([each[1] for each in several])
+    scale = greatest_bottom * greatest_bottom
+    return sorted(sorted(set(several)), key=lambda each: each[0] * scale // each[1])

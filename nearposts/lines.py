@@ -1,7 +1,8 @@
 """Folk and posts on a line: reaches, meetings, and as few posts as can be."""
 
-from nearposts.errors import NoFolk, NoPosts, NoReach, NoThing
-from nearposts.fractions import fraction_of, greatest_of, is_below, least_of
+from nearposts.common import check_posts, reach_by
+from nearposts.errors import NoFolk, NoReach, NoThing
+from nearposts.fractions import fraction_of, is_below
 
 
 def check_folk(folk):
@@ -20,17 +21,10 @@ def how_far(one, post):
     return fraction_of(one[1] * gap, post[1])
 
 
-def how_far_nearest(one, posts):
-    return least_of([how_far(one, post) for post in posts])
-
-
 def reach_of(folk, posts):
     check_folk(folk)
-    if len(folk) == 0:
-        return (0, 1)
-    if len(posts) == 0:
-        raise NoPosts()
-    return greatest_of([how_far_nearest(one, posts) for one in folk])
+    check_posts(folk, posts)
+    return reach_by(how_far, folk, posts)
 
 
 def meeting_of(one, other):

@@ -1,13 +1,9 @@
+import random
 import unittest
 from fractions import Fraction
 
-from nearposts.fractions import fraction_of, greatest_of, is_below, least_of
-
-BIG = 10 ** 40 - 1
-
-
-def pair(value):
-    return (value.numerator, value.denominator)
+from nearposts.fractions import fraction_of, greatest_of, is_below, least_of, rising_unlike
+from reckoning import BIG, pair
 
 
 class FractionsTest(unittest.TestCase):
@@ -39,6 +35,18 @@ class FractionsTest(unittest.TestCase):
         self.assertEqual(least_of([(7, 9)]), (7, 9))
         self.assertEqual(greatest_of([(7, 9)]), (7, 9))
         self.assertEqual(several, [(1, 2), (-1, 3), (2, 3), (-1, 2), (5, 8)])
+
+    def test_rising_unlike(self):
+        chance = random.Random(3)
+        values = {Fraction(top, bottom) for top in range(-7, 8) for bottom in range(1, 6)}
+        values |= {Fraction(BIG - 1, BIG), Fraction(BIG, BIG + 1), Fraction(BIG - 2, BIG - 1), Fraction(1, BIG)}
+        several = [pair(value) for value in sorted(values)] * 2
+        for at in range(5):
+            chance.shuffle(several)
+            kept = list(several)
+            self.assertEqual(rising_unlike(several), [pair(value) for value in sorted(values)])
+            self.assertEqual(several, kept)
+        self.assertEqual(rising_unlike([(7, 9)]), [(7, 9)])
 
 
 if __name__ == "__main__":

@@ -95,6 +95,28 @@ class LanguageTest(unittest.TestCase):
                 self.assertTrue(node.module.startswith("nearposts."), (name, node.module))
                 self.assertNotIn("*", [each.name for each in node.names], name)
 
+    def test_sets_are_sorted_counted_or_asked(self):
+        for name, node in self.walk():
+            for child in ast.iter_child_nodes(node):
+                if isinstance(child, ast.Call) and isinstance(child.func, ast.Name) and child.func.id == "set":
+                    where = (name, child.lineno)
+                    if isinstance(node, ast.Call):
+                        self.assertIn(node.func.id, ("sorted", "len"), where)
+                        self.assertEqual(node.keywords, [], where)
+                    else:
+                        self.assertIsInstance(node, ast.Compare, where)
+
+    def test_no_two_files_draw_from_one_another(self):
+        draws = {path.stem: [] for path in files()}
+        for name, node in self.walk():
+            if isinstance(node, ast.ImportFrom):
+                draws[name.removesuffix(".py")].append(node.module.removeprefix("nearposts."))
+        while draws:
+            free = [each for each in draws if not any(other in draws for other in draws[each])]
+            self.assertNotEqual(free, [], draws)
+            for each in free:
+                draws.pop(each)
+
     def test_names(self):
         left_out = [each for each in builtin_names() if each not in OWN_NAMES]
         for name, node in self.walk():

@@ -6,64 +6,7 @@ from fractions import Fraction
 
 from nearposts.errors import NoFolk, NoPosts, NoReach, NoThing
 from nearposts.lines import are_apart, fewest, meeting, reach_of
-
-BIG = 10 ** 40 - 1
-BAD_WEIGHTS = (0, -1, -BIG)
-LITTLE = Fraction(1, 10 ** 45)
-
-
-def pair(value):
-    value = Fraction(value)
-    return (value.numerator, value.denominator)
-
-
-def reckoned_reach(folk, posts):
-    ways = [min(weight * abs(place - Fraction(*post)) for post in posts) for place, weight in folk]
-    return max(ways, default=Fraction(0))
-
-
-def reckoned_meeting(folk, one, other):
-    gap = abs(folk[one][0] - folk[other][0])
-    return Fraction(folk[one][1] * folk[other][1] * gap, folk[one][1] + folk[other][1])
-
-
-def some_folk(chance, count, places, weights):
-    return [(chance.randint(-places, places), chance.randint(1, weights)) for at in range(count)]
-
-
-def some_posts(chance, count, places):
-    return [pair(Fraction(chance.randint(-places, places), chance.randint(1, 9))) for at in range(count)]
-
-
-def many_folk():
-    chance = random.Random(5)
-    told = [[], [(0, 1)], [(-7, 3)], [(4, 2), (4, 2)], [(4, 2), (4, 9), (4, 2)]]
-    for count in range(2, 9):
-        told.append(some_folk(chance, count, 6, 4))
-        told.append(some_folk(chance, count, 50, 9))
-    told.append(some_folk(chance, 40, 30, 5))
-    told.append(some_folk(chance, 40, BIG, BIG))
-    told.append([(BIG, BIG), (-BIG, BIG), (-BIG, 1), (BIG, BIG), (0, BIG)])
-    return told
-
-
-class LineTest(unittest.TestCase):
-    def assert_fraction(self, told):
-        self.assertIs(type(told), tuple)
-        self.assertEqual([type(each) for each in told], [int, int])
-        self.assertGreaterEqual(told[1], 1)
-        self.assertEqual(told, pair(Fraction(*told)))
-
-    def assert_no_folk(self, number, call):
-        with self.assertRaises(NoFolk) as caught:
-            call()
-        self.assertEqual(caught.exception.number, number)
-
-    def assert_first_bad_weight_is_told(self, call):
-        for bad in BAD_WEIGHTS:
-            self.assert_no_folk(0, lambda: call([(3, bad)]))
-            self.assert_no_folk(1, lambda: call([(3, 1), (3, bad), (4, 2)]))
-            self.assert_no_folk(2, lambda: call([(3, 1), (3, 1), (-4, bad), (5, 0), (6, -2)]))
+from reckoning import BIG, LITTLE, LineTest, many_folk, pair, reckoned_meeting, reckoned_reach, some_posts
 
 
 class ReachOfTest(LineTest):
