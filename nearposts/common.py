@@ -1,4 +1,4 @@
-"""What the line, the ring and the plane have in common."""
+"""What the line, the ring, the plane and tables have in common."""
 
 from nearposts.errors import NoMany, NoPosts
 from nearposts.fractions import greatest_of, least_of
@@ -12,6 +12,11 @@ def check_many(many):
 def check_posts(folk, posts):
     if len(folk) > 0 and len(posts) == 0:
         raise NoPosts()
+
+
+# Python reads an index below 0 from a list's end, but nothing has such a number.
+def is_number_of(things, number):
+    return 0 <= number < len(things)
 
 
 def way_to_nearest(way, one, posts):

@@ -36,9 +36,22 @@ def greatest_of(several):
     return greatest
 
 
-# Two unlike fractions are at least one over the product of their bottoms apart, so the
-# whole numbers that they are sorted by are unlike too.
+# Two unlike fractions are at least one over the product of their bottoms apart, so with
+# this scale the whole numbers that they are sorted by are unlike too.
+def scale_for(several):
+    greatest_bottom = max([each[1] for each in several], default=1)
+    return greatest_bottom * greatest_bottom
+
+
+def scaled(fraction, scale):
+    return fraction[0] * scale // fraction[1]
+
+
 def rising_unlike(several):
-    greatest_bottom = max([each[1] for each in several])
-    scale = greatest_bottom * greatest_bottom
-    return sorted(sorted(set(several)), key=lambda each: each[0] * scale // each[1])
+    scale = scale_for(several)
+    return sorted(sorted(set(several)), key=lambda each: scaled(each, scale))
+
+
+def places_by_size(several):
+    scale = scale_for(several)
+    return sorted(range(len(several)), key=lambda place: scaled(several[place], scale))

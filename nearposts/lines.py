@@ -1,19 +1,14 @@
 """Folk and posts on a line: reaches, meetings, and as few posts as can be."""
 
-from nearposts.common import check_posts, reach_by
+from nearposts.common import check_posts, is_number_of, reach_by
 from nearposts.errors import NoFolk, NoReach, NoThing
-from nearposts.fractions import fraction_of, is_below
+from nearposts.fractions import fraction_of, is_below, places_by_size
 
 
 def check_folk(folk):
     for number, one in enumerate(folk):
         if one[1] < 1:
             raise NoFolk(number)
-
-
-# Python reads an index below 0 from the list's end, but no one has such a number.
-def is_number_of(folk, number):
-    return 0 <= number < len(folk)
 
 
 def how_far(one, post):
@@ -45,30 +40,20 @@ def highest_post_for(one, reach):
     return fraction_of(one[0] * bottom + reach[0], bottom)
 
 
-def first_to_end(folk, numbers, reach):
-    first = numbers[0]
-    for number in numbers:
-        if is_below(highest_post_for(folk[number], reach), highest_post_for(folk[first], reach)):
-            first = number
-    return first
-
-
-# The one whose highest post is the lowest must be served by it or below it, and no
-# post below it serves others of the waiting besides. All posts that serve those still
-# waiting then lie above it, so no post serves two of apart: fewer posts can't do.
+# Posts that serve one are a stretch of the line, and folk are gone through by where it
+# ends. One whom the last post doesn't serve has its whole stretch above that post, so no
+# post serves two of apart: fewer posts can't do.
 def fewest(folk, reach):
     check_folk(folk)
     if reach[0] < 0:
         raise NoReach()
+    ends = [highest_post_for(one, reach) for one in folk]
     posts = []
     apart = []
-    waiting = list(range(len(folk)))
-    while len(waiting) > 0:
-        number = first_to_end(folk, waiting, reach)
-        post = highest_post_for(folk[number], reach)
-        posts.append(post)
-        apart.append(number)
-        waiting = [each for each in waiting if is_below(reach, how_far(folk[each], post))]
+    for number in places_by_size(ends):
+        if len(posts) == 0 or is_below(reach, how_far(folk[number], posts[-1])):
+            posts.append(ends[number])
+            apart.append(number)
     return (posts, sorted(apart))
 
 

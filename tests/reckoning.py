@@ -4,7 +4,7 @@ import random
 import unittest
 from fractions import Fraction
 
-from nearposts.errors import NoFolk, NoMany
+from nearposts.errors import NoFolk, NoMany, PostError
 
 BIG = 10 ** 40 - 1
 BAD_WEIGHTS = (0, -1, -BIG)
@@ -77,6 +77,12 @@ class ReckoningTest(unittest.TestCase):
     def assert_rising(self, values):
         for one, other in zip(values, values[1:]):
             self.assertLess(one, other)
+
+    def assert_refused(self, kind, fields, call):
+        with self.assertRaises(PostError) as caught:
+            call()
+        self.assertIs(type(caught.exception), kind)
+        self.assertEqual(vars(caught.exception), fields)
 
     def assert_no_folk(self, number, call):
         with self.assertRaises(NoFolk) as caught:

@@ -1,6 +1,6 @@
 import unittest
 
-from nearposts.common import check_many, check_posts, first_that_holds, reach_by
+from nearposts.common import check_many, check_posts, first_that_holds, is_number_of, reach_by
 from nearposts.errors import NoPosts
 from reckoning import BIG, ReckoningTest
 
@@ -17,6 +17,11 @@ class CommonTest(ReckoningTest):
         check_posts([1], [(0, 1)])
         with self.assertRaises(NoPosts):
             check_posts([1], [])
+
+    def test_numbers_that_things_have(self):
+        for things in ([], [7], [7, 7, 7], (1, 2)):
+            for number in (-BIG, -2, -1, 0, 1, 2, 3, BIG):
+                self.assertIs(is_number_of(things, number), number in range(len(things)))
 
     def test_reach_by_a_way(self):
         def way(one, post):

@@ -2,7 +2,7 @@ import random
 import unittest
 from fractions import Fraction
 
-from nearposts.fractions import fraction_of, greatest_of, is_below, least_of, rising_unlike
+from nearposts.fractions import fraction_of, greatest_of, is_below, least_of, places_by_size, rising_unlike
 from reckoning import BIG, pair
 
 
@@ -47,6 +47,16 @@ class FractionsTest(unittest.TestCase):
             self.assertEqual(rising_unlike(several), [pair(value) for value in sorted(values)])
             self.assertEqual(several, kept)
         self.assertEqual(rising_unlike([(7, 9)]), [(7, 9)])
+
+    def test_places_by_size(self):
+        chance = random.Random(4)
+        values = [Fraction(top, bottom) for top in range(-5, 6) for bottom in range(1, 5)]
+        values += [Fraction(BIG - 1, BIG), Fraction(BIG, BIG + 1), Fraction(BIG - 2, BIG - 1), -Fraction(1, BIG)]
+        for at in range(5):
+            chance.shuffle(values)
+            told = places_by_size([pair(value) for value in values])
+            self.assertEqual(told, sorted(range(len(values)), key=lambda place: (values[place], place)))
+        self.assertEqual(places_by_size([]), [])
 
 
 if __name__ == "__main__":

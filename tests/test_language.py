@@ -30,6 +30,21 @@ center encode expandtabs isdecimal isidentifier isnumeric isprintable istitle ma
 rindex swapcase translate popitem fromkeys as_integer_ratio to_bytes from_bytes bit_count
 """.split()
 
+METHODS = """
+append clear copy count endswith extend find get index insert isalnum isalpha isdigit islower isspace isupper items
+join keys ljust lower lstrip partition pop remove replace reverse rfind rjust rpartition rsplit rstrip setdefault split
+splitlines startswith strip update upper values zfill bit_length
+""".split()
+KEYWORDS = {
+    "sorted": ("key", "reverse"),
+    "min": ("key", "default"),
+    "max": ("key", "default"),
+    "sum": ("start",),
+    "enumerate": ("start",),
+    "zip": ("strict",),
+}
+KINDS = (str, int, list, dict, set, bytes, tuple)
+
 
 def files():
     return sorted(path for path in PACKAGE.rglob("*") if path.is_file() and "__pycache__" not in path.parts)
@@ -135,6 +150,53 @@ class LanguageTest(unittest.TestCase):
                 self.assertTrue(node.attr in DOUBLE or not node.attr.startswith("_"), where)
             if isinstance(node, ast.FunctionDef):
                 self.assertTrue(node.name in DOUBLE or not node.name.startswith("_"), where)
+
+    def test_methods_that_are_called(self):
+        own = [each.name for name, node in self.walk() if isinstance(node, ast.ClassDef) for each in node.body
+               if isinstance(each, ast.FunctionDef)]
+        for name, node in self.walk():
+            if isinstance(node, ast.Call) and isinstance(node.func, ast.Attribute):
+                self.assertIn(node.func.attr, METHODS + own, (name, node.lineno))
+                self.assertEqual(node.keywords, [], (name, node.lineno))
+            if isinstance(node, ast.Call) and isinstance(node.func, ast.Name):
+                for keyword in node.keywords:
+                    self.assertIn(keyword.arg, KEYWORDS.get(node.func.id, ()), (name, node.lineno))
+
+    def test_methods_and_values_of_own_classes(self):
+        methods = {}
+        values = {}
+        for name, node in self.walk():
+            if isinstance(node, ast.ClassDef):
+                for each in node.body:
+                    self.assertIsInstance(each, (ast.FunctionDef, ast.Pass), (name, each.lineno))
+                    if isinstance(each, ast.FunctionDef) and each.name not in DOUBLE:
+                        self.assertNotIn((node.name, each.name), methods)
+                        methods[node.name, each.name] = each.lineno
+            if isinstance(node, ast.Attribute) and isinstance(node.ctx, ast.Store):
+                values[node.attr] = (name, node.lineno)
+        of_python = {each for kind in KINDS for each in dir(kind)} - {"count", "index", "copy", "add"}
+        names = {method for owner, method in methods}
+        self.assertEqual(names & set(values), set())
+        self.assertEqual((names | set(values)) & of_python, set())
+
+    def test_locals_are_not_called_like_what_the_file_draws_or_defines(self):
+        for path in files():
+            tree = ast.parse(path.read_text())
+            top = [each.name for each in tree.body if isinstance(each, (ast.FunctionDef, ast.ClassDef))]
+            for node in tree.body:
+                if isinstance(node, ast.ImportFrom):
+                    top += [each.name for each in node.names]
+            self.assertEqual(len(top), len(set(top)), path.name)
+            for node in ast.walk(tree):
+                if isinstance(node, ast.Name) and isinstance(node.ctx, ast.Store):
+                    self.assertNotIn(node.id, top, (path.name, node.lineno))
+                if isinstance(node, ast.arg):
+                    self.assertNotIn(node.arg, top, (path.name, node.lineno))
+
+    def test_is_stands_beside_none_true_and_false_alone(self):
+        for name, node in self.walk():
+            if isinstance(node, ast.Compare) and any(isinstance(each, (ast.Is, ast.IsNot)) for each in node.ops):
+                self.assertIsInstance(node.comparators[-1], ast.Constant, (name, node.lineno))
 
 
 if __name__ == "__main__":
